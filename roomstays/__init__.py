@@ -1,0 +1,1 @@
+"""Who is let in where only so many have a place at once."""

@@ -1,0 +1,59 @@
+"""Stays by the hour, and who of those who ask is let in."""
+
+MOST_PLACES = 20
+MOST_STAYS = 10
+LAST_HOUR = 24
+
+
+def refusal():
+    """What every refused call answers."""
+    return [-22]
+
+
+def are_stays(stays):
+    """Whether the numbers are stays: pairs, not too many, each of hours of the day."""
+    if len(stays) % 2 != 0 or len(stays) > 2 * MOST_STAYS:
+        return False
+    for first, until in pairs(stays):
+        if not 0 <= first < until <= LAST_HOUR:
+            return False
+    return True
+
+
+def pairs(stays):
+    """The stays as tuples (first hour, hour up to which), by number."""
+    return [(stays[at], stays[at + 1]) for at in range(0, len(stays), 2)]
+
+
+def in_turn(spans):
+    """The numbers of the stays by first hour, of alike ones by number."""
+    return sorted(range(len(spans)), key=lambda number: (spans[number][0], number))
+
+
+def those_there(hour, numbers, spans):
+    """Those of the numbers whose stays have the hour."""
+    return [number for number in numbers if spans[number][0] <= hour < spans[number][1]]
+
+
+def last_to_leave(numbers, spans):
+    """The number whose stay ends latest, of alike ones the greatest."""
+    return max(numbers, key=lambda number: (spans[number][1], number))
+
+
+def who_is_let_in(room, spans):
+    """The numbers of those let in with so much room, rising."""
+    inside = []
+    for number in in_turn(spans):
+        inside.append(number)
+        there = those_there(spans[number][0], inside, spans)
+        if len(there) > room:
+            inside.remove(last_to_leave(there, spans))
+    return sorted(inside)
+
+
+def letin(places, stays):
+    """How many are let in, then their numbers, rising; or the refusal."""
+    if places > MOST_PLACES or not are_stays(stays):
+        return refusal()
+    inside = who_is_let_in(places, pairs(stays))
+    return [len(inside)] + inside
