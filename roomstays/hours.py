@@ -1,4 +1,4 @@
-"""Stays by the hour, and who of those who ask is let in."""
+"""Stays by the hour: who of those who ask is let in, and whether some are allowed."""
 
 MOST_PLACES = 20
 MOST_STAYS = 10
@@ -20,6 +20,11 @@ def are_stays(stays):
     return True
 
 
+def are_numbers_of_stays(some, count):
+    """Whether the numbers are different ones, each less than the count of the stays."""
+    return len(set(some)) == len(some) and all([0 <= number < count for number in some])
+
+
 def pairs(stays):
     """The stays as tuples (first hour, hour up to which), by number."""
     return [(stays[at], stays[at + 1]) for at in range(0, len(stays), 2)]
@@ -33,6 +38,11 @@ def in_turn(spans):
 def those_there(hour, numbers, spans):
     """Those of the numbers whose stays have the hour."""
     return [number for number in numbers if spans[number][0] <= hour < spans[number][1]]
+
+
+def most_there(numbers, spans):
+    """How many of the numbers are there in the hour in which most of them are."""
+    return max([len(those_there(hour, numbers, spans)) for hour in range(LAST_HOUR)])
 
 
 def last_to_leave(numbers, spans):
@@ -57,3 +67,15 @@ def letin(places, stays):
         return refusal()
     inside = who_is_let_in(places, pairs(stays))
     return [len(inside)] + inside
+
+
+def allowed(places, stays, some):
+    """1 where in no hour more of some are there than there are places, else 0; or the refusal."""
+    if places > MOST_PLACES or not are_stays(stays):
+        return refusal()
+    spans = pairs(stays)
+    if not are_numbers_of_stays(some, len(spans)):
+        return refusal()
+    if most_there(some, spans) > places:
+        return [0]
+    return [1]

@@ -14,7 +14,10 @@ from roomstays import hours
 PACKAGE = pathlib.Path(hours.__file__).parent
 
 # The parameters of each call that has landed, and what it is called with here.
-PARAMETERS = {"letin": ["places", "stays"]}
+PARAMETERS = {
+    "letin": ["places", "stays"],
+    "allowed": ["places", "stays", "some"],
+}
 CALLS = {
     "letin": [
         (1, [0, 3, 1, 2, 2, 3]),
@@ -26,7 +29,22 @@ CALLS = {
         (1, [2, 1]),
         (1, [1, 2] * 12),
     ],
+    "allowed": [
+        (2, [9, 12, 10, 11, 10, 14, 11, 13, 12, 15], [4, 0, 3, 1]),
+        (2, [9, 12, 10, 11, 10, 14, 11, 13, 12, 15], [2, 1, 0]),
+        (0, [1, 2], []),
+        (20, [], []),
+        (21, [1, 2], [0]),
+        (1, [1, 2, 3], [0]),
+        (1, [2, 1], [0]),
+        (1, [1, 2] * 12, [0]),
+        (1, [1, 2, 3, 4], [1, 0, 2]),
+        (1, [1, 2, 3, 4], [1, 0, 1]),
+    ],
 }
+
+# Those that answer one number; the others answer a number, then so many others.
+ONE_NUMBER = ["allowed"]
 
 
 class Untouched(list):
@@ -60,6 +78,7 @@ class Interface(unittest.TestCase):
 
     def test_called_by_name_of_parameter(self):
         self.assertEqual(hours.letin(places=1, stays=[1, 2]), [1, 0])
+        self.assertEqual(hours.allowed(places=1, stays=[1, 2, 1, 2], some=[1]), [1])
 
     def test_answers_are_lists_of_whole_numbers(self):
         for call, values in every_call():
@@ -68,10 +87,11 @@ class Interface(unittest.TestCase):
             for number in answer:
                 self.assertIs(type(number), int)
 
-    def test_letin_tells_as_many_numbers_as_it_says(self):
-        for values in CALLS["letin"]:
-            answer = hours.letin(*copied(values))
-            self.assertEqual(len(answer), 1 if answer[0] < 0 else 1 + answer[0])
+    def test_answers_are_as_long_as_told(self):
+        for call, values in every_call():
+            answer = call(*copied(values))
+            others = 0 if answer[0] < 0 or call.__name__ in ONE_NUMBER else answer[0]
+            self.assertEqual(len(answer), 1 + others)
 
     def test_what_is_handed_in_stays_as_it_was(self):
         for call, values in every_call():

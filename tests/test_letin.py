@@ -3,26 +3,11 @@
 import itertools
 import unittest
 
+from days import fit, flat, scattered_days, small_days, there
 from roomstays.hours import letin
 
 REFUSED = [-22]
 ALL_DAY = [0, 24]
-
-
-def spans_of(stays):
-    return list(zip(stays[0::2], stays[1::2]))
-
-
-def flat(spans):
-    return [hour for span in spans for hour in span]
-
-
-def there(numbers, spans, hour):
-    return [number for number in numbers if spans[number][0] <= hour < spans[number][1]]
-
-
-def fit(numbers, spans, places):
-    return all(len(there(numbers, spans, hour)) <= places for hour in range(24))
 
 
 def most_that_fit(spans, places):
@@ -41,29 +26,6 @@ def kept_hour_by_hour(spans, places):
         by_leaving = sorted(there(inside, spans, hour), key=lambda number: (spans[number][1], number))
         inside -= set(by_leaving[places:])
     return sorted(inside)
-
-
-def small_days():
-    """Every row of up to four stays within three hours, with up to four places."""
-    every_span = [(first, until) for first in range(3) for until in range(first + 1, 4)]
-    for size in range(5):
-        for spans in itertools.product(every_span, repeat=size):
-            for places in range(5):
-                yield list(spans), places
-
-
-def scattered_days():
-    """Rows of ten stays over the whole day, the same ones in every run."""
-    state = 1
-    for places in range(12):
-        for _ in range(40):
-            spans = []
-            for _ in range(10):
-                state = (state * 1103515245 + 12345) % 2147483648
-                first = state // 65536 % 24
-                state = (state * 1103515245 + 12345) % 2147483648
-                spans.append((first, first + 1 + state // 65536 % (24 - first)))
-            yield spans, places
 
 
 class Ordinary(unittest.TestCase):

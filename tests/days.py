@@ -1,0 +1,38 @@
+"""Days of stays that the tests try, and what can be told of them without the program."""
+
+import itertools
+
+
+def flat(spans):
+    return [hour for span in spans for hour in span]
+
+
+def there(numbers, spans, hour):
+    return [number for number in numbers if spans[number][0] <= hour < spans[number][1]]
+
+
+def fit(numbers, spans, places):
+    return all(len(there(numbers, spans, hour)) <= places for hour in range(24))
+
+
+def small_days():
+    """Every row of up to four stays within three hours, with up to four places."""
+    every_span = [(first, until) for first in range(3) for until in range(first + 1, 4)]
+    for size in range(5):
+        for spans in itertools.product(every_span, repeat=size):
+            for places in range(5):
+                yield list(spans), places
+
+
+def scattered_days():
+    """Rows of ten stays over the whole day, the same ones in every run."""
+    state = 1
+    for places in range(12):
+        for _ in range(40):
+            spans = []
+            for _ in range(10):
+                state = (state * 1103515245 + 12345) % 2147483648
+                first = state // 65536 % 24
+                state = (state * 1103515245 + 12345) % 2147483648
+                spans.append((first, first + 1 + state // 65536 % (24 - first)))
+            yield spans, places
