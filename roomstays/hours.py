@@ -1,4 +1,4 @@
-"""Stays by the hour: who of those who ask is let in, and whether some are allowed."""
+"""Stays by the hour: who is let in, whether some are allowed, and how many meet at most."""
 
 MOST_PLACES = 20
 MOST_STAYS = 10
@@ -79,3 +79,11 @@ def allowed(places, stays, some):
     if most_there(some, spans) > places:
         return [0]
     return [1]
+
+
+def peak(stays):
+    """The most that are there in any hour, of all; or the refusal."""
+    if not are_stays(stays):
+        return refusal()
+    spans = pairs(stays)
+    return [most_there(list(range(len(spans))), spans)]

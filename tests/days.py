@@ -15,6 +15,15 @@ def fit(numbers, spans, places):
     return all(len(there(numbers, spans, hour)) <= places for hour in range(24))
 
 
+def fullest_hour(numbers, spans):
+    """How many there are in the fullest hour, by marking each hour of each stay."""
+    marks = [0] * 24
+    for number in numbers:
+        for hour in range(*spans[number]):
+            marks[hour] += 1
+    return max(marks)
+
+
 def small_days():
     """Every row of up to four stays within three hours, with up to four places."""
     every_span = [(first, until) for first in range(3) for until in range(first + 1, 4)]

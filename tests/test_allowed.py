@@ -3,7 +3,7 @@
 import itertools
 import unittest
 
-from days import flat, scattered_days, small_days
+from days import flat, fullest_hour, scattered_days, small_days
 from roomstays.hours import allowed, letin
 
 YES = [1]
@@ -11,15 +11,6 @@ NO = [0]
 REFUSED = [-22]
 ALL_DAY = [0, 24]
 TEN = list(range(10))
-
-
-def fullest_hour(numbers, spans):
-    """How many there are in the fullest hour, by marking each hour of each stay."""
-    marks = [0] * 24
-    for number in numbers:
-        for hour in range(*spans[number]):
-            marks[hour] += 1
-    return max(marks)
 
 
 def every_choice(count):

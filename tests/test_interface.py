@@ -17,6 +17,7 @@ PACKAGE = pathlib.Path(hours.__file__).parent
 PARAMETERS = {
     "letin": ["places", "stays"],
     "allowed": ["places", "stays", "some"],
+    "peak": ["stays"],
 }
 CALLS = {
     "letin": [
@@ -41,10 +42,18 @@ CALLS = {
         (1, [1, 2, 3, 4], [1, 0, 2]),
         (1, [1, 2, 3, 4], [1, 0, 1]),
     ],
+    "peak": [
+        ([9, 12, 10, 11, 10, 14, 11, 13, 12, 15],),
+        ([0, 24] * 10,),
+        ([],),
+        ([1, 2, 3],),
+        ([2, 1],),
+        ([1, 2] * 12,),
+    ],
 }
 
 # Those that answer one number; the others answer a number, then so many others.
-ONE_NUMBER = ["allowed"]
+ONE_NUMBER = ["allowed", "peak"]
 
 
 class Untouched(list):
@@ -79,6 +88,7 @@ class Interface(unittest.TestCase):
     def test_called_by_name_of_parameter(self):
         self.assertEqual(hours.letin(places=1, stays=[1, 2]), [1, 0])
         self.assertEqual(hours.allowed(places=1, stays=[1, 2, 1, 2], some=[1]), [1])
+        self.assertEqual(hours.peak(stays=[1, 2, 1, 2]), [2])
 
     def test_answers_are_lists_of_whole_numbers(self):
         for call, values in every_call():
