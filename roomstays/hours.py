@@ -1,4 +1,4 @@
-"""Stays by the hour: who is let in, whether some are allowed, and how many meet at most."""
+"""Stays by the hour: who is let in, whether some are allowed, how many meet, and the lockers."""
 
 MOST_PLACES = 20
 MOST_STAYS = 10
@@ -61,6 +61,25 @@ def who_is_let_in(room, spans):
     return sorted(inside)
 
 
+def least_free(taken):
+    """The least locker that is not among those taken."""
+    locker = 0
+    while locker in taken:
+        locker += 1
+    return locker
+
+
+def locker_of_each(spans):
+    """The lockers that the stays get if all are let in, by number of the stay."""
+    given = [0] * len(spans)
+    inside = []
+    for number in in_turn(spans):
+        there = those_there(spans[number][0], inside, spans)
+        given[number] = least_free([given[other] for other in there])
+        inside.append(number)
+    return given
+
+
 def letin(places, stays):
     """How many are let in, then their numbers, rising; or the refusal."""
     if places > MOST_PLACES or not are_stays(stays):
@@ -87,3 +106,11 @@ def peak(stays):
         return refusal()
     spans = pairs(stays)
     return [most_there(list(range(len(spans))), spans)]
+
+
+def lockers(stays):
+    """How many stays there are, then the locker of each, by number; or the refusal."""
+    if not are_stays(stays):
+        return refusal()
+    spans = pairs(stays)
+    return [len(spans)] + locker_of_each(spans)

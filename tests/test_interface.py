@@ -18,6 +18,7 @@ PARAMETERS = {
     "letin": ["places", "stays"],
     "allowed": ["places", "stays", "some"],
     "peak": ["stays"],
+    "lockers": ["stays"],
 }
 CALLS = {
     "letin": [
@@ -44,6 +45,15 @@ CALLS = {
     ],
     "peak": [
         ([9, 12, 10, 11, 10, 14, 11, 13, 12, 15],),
+        ([0, 24] * 10,),
+        ([],),
+        ([1, 2, 3],),
+        ([2, 1],),
+        ([1, 2] * 12,),
+    ],
+    "lockers": [
+        ([9, 12, 10, 11, 10, 14, 11, 13, 12, 15],),
+        ([12, 15, 11, 13, 10, 14, 10, 11, 9, 12],),
         ([0, 24] * 10,),
         ([],),
         ([1, 2, 3],),
@@ -89,6 +99,7 @@ class Interface(unittest.TestCase):
         self.assertEqual(hours.letin(places=1, stays=[1, 2]), [1, 0])
         self.assertEqual(hours.allowed(places=1, stays=[1, 2, 1, 2], some=[1]), [1])
         self.assertEqual(hours.peak(stays=[1, 2, 1, 2]), [2])
+        self.assertEqual(hours.lockers(stays=[1, 2, 1, 2]), [2, 0, 1])
 
     def test_answers_are_lists_of_whole_numbers(self):
         for call, values in every_call():
