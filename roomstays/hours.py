@@ -1,4 +1,4 @@
-"""Stays by the hour: who is let in, whether some are allowed, how many meet, and the lockers."""
+"""Stays by the hour: who is let in, who is allowed, how many meet, the lockers, one more place."""
 
 MOST_PLACES = 20
 MOST_STAYS = 10
@@ -114,3 +114,12 @@ def lockers(stays):
         return refusal()
     spans = pairs(stays)
     return [len(spans)] + locker_of_each(spans)
+
+
+def places(stays):
+    """How many numbers follow, then how many are let in with no place, with one, and so on; or the refusal."""
+    if not are_stays(stays):
+        return refusal()
+    spans = pairs(stays)
+    let_in = [len(who_is_let_in(room, spans)) for room in range(len(spans) + 1)]
+    return [len(let_in)] + let_in

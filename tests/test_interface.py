@@ -13,12 +13,13 @@ from roomstays import hours
 
 PACKAGE = pathlib.Path(hours.__file__).parent
 
-# The parameters of each call that has landed, and what it is called with here.
+# The parameters of each call, and what it is called with here.
 PARAMETERS = {
     "letin": ["places", "stays"],
     "allowed": ["places", "stays", "some"],
     "peak": ["stays"],
     "lockers": ["stays"],
+    "places": ["stays"],
 }
 CALLS = {
     "letin": [
@@ -54,6 +55,14 @@ CALLS = {
     "lockers": [
         ([9, 12, 10, 11, 10, 14, 11, 13, 12, 15],),
         ([12, 15, 11, 13, 10, 14, 10, 11, 9, 12],),
+        ([0, 24] * 10,),
+        ([],),
+        ([1, 2, 3],),
+        ([2, 1],),
+        ([1, 2] * 12,),
+    ],
+    "places": [
+        ([9, 12, 10, 11, 10, 14, 11, 13, 12, 15],),
         ([0, 24] * 10,),
         ([],),
         ([1, 2, 3],),
@@ -100,6 +109,7 @@ class Interface(unittest.TestCase):
         self.assertEqual(hours.allowed(places=1, stays=[1, 2, 1, 2], some=[1]), [1])
         self.assertEqual(hours.peak(stays=[1, 2, 1, 2]), [2])
         self.assertEqual(hours.lockers(stays=[1, 2, 1, 2]), [2, 0, 1])
+        self.assertEqual(hours.places(stays=[1, 2, 1, 2]), [3, 0, 1, 2])
 
     def test_answers_are_lists_of_whole_numbers(self):
         for call, values in every_call():

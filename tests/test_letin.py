@@ -3,20 +3,11 @@
 import itertools
 import unittest
 
-from days import fit, flat, scattered_days, small_days, there
+from days import fit, flat, most_that_fit, scattered_days, small_days, there
 from roomstays.hours import letin
 
 REFUSED = [-22]
 ALL_DAY = [0, 24]
-
-
-def most_that_fit(spans, places):
-    """By trying every choice of stays, the largest ones first."""
-    for size in range(len(spans), 0, -1):
-        for chosen in itertools.combinations(range(len(spans)), size):
-            if fit(chosen, spans, places):
-                return size
-    return 0
 
 
 def kept_hour_by_hour(spans, places):

@@ -1,9 +1,8 @@
 """Tests of roomstays.hours.lockers: promise 1 as far as it speaks of it, and promise 3."""
 
-import itertools
 import unittest
 
-from days import flat, scattered_days, small_days, there
+from days import every_row, flat, there
 from roomstays.hours import lockers, peak
 
 REFUSED = [-22]
@@ -20,10 +19,6 @@ def handed_back_hour_by_hour(spans):
             if span[0] == hour:
                 keys[number] = hook.pop(0)
     return keys
-
-
-def some_days():
-    return [spans for spans, places in itertools.chain(small_days(), scattered_days())]
 
 
 class Ordinary(unittest.TestCase):
@@ -175,24 +170,24 @@ class Refused(unittest.TestCase):
 
 class WhatHolds(unittest.TestCase):
     def test_the_same_as_with_keys_handed_back_hour_by_hour(self):
-        for spans in some_days():
+        for spans in every_row():
             self.assertEqual(lockers(flat(spans)), [len(spans)] + handed_back_hour_by_hour(spans), spans)
 
     def test_as_many_lockers_as_are_there_at_once_are_enough(self):
-        for spans in some_days():
+        for spans in every_row():
             given = lockers(flat(spans))[1:]
             self.assertLessEqual(len(set(given)), peak(flat(spans))[0], spans)
             self.assertEqual(sorted(set(given)), list(range(peak(flat(spans))[0])), spans)
 
     def test_nobody_shares_a_locker_in_an_hour_in_which_both_are_there(self):
-        for spans in some_days():
+        for spans in every_row():
             given = lockers(flat(spans))[1:]
             for hour in range(24):
                 used = [given[number] for number in there(range(len(spans)), spans, hour)]
                 self.assertEqual(len(set(used)), len(used), spans)
 
     def test_one_who_asks_later_changes_no_locker_of_the_others(self):
-        for spans in some_days():
+        for spans in every_row():
             if spans and spans[-1][0] == max(first for first, until in spans):
                 self.assertEqual(lockers(flat(spans))[1:-1], lockers(flat(spans[:-1]))[1:], spans)
 
